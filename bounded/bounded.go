@@ -1,0 +1,41 @@
+// Package bounded: a gate that lets in only programs that are sure to end: see DOC.md.
+package bounded
+
+import (
+	"bounded/api"
+	"bounded/refusal"
+	"bounded/source"
+)
+
+// Check tells what is wrong with a program's text (P2).
+func Check(text string) (api.Errno, int) {
+	return outcome(func() { source.Read(text) })
+}
+
+// Trace runs a program, step by step (P3).
+func Trace(text string, input []int64, steps int) (api.State, api.Errno, int) {
+	return api.State{}, api.OK, 0
+}
+
+// Verify lets a program in, or does not (P4).
+func Verify(text string) (api.Bound, api.Errno, int) { return api.Bound{}, api.OK, 0 }
+
+// Run runs a program that is let in (P5).
+func Run(text string, input []int64) (api.State, api.Errno, int) {
+	return api.State{}, api.OK, 0
+}
+
+// outcome does the work and tells the refusal that ended it, if one did. Any other panic is a mistake of the program's own, which must not pass for an answer: it is told on.
+func outcome(work func()) (errno api.Errno, line int) {
+	defer func() {
+		switch found := recover().(type) {
+		case nil:
+		case refusal.Refusal:
+			errno, line = found.Errno, found.Line
+		default:
+			panic(found)
+		}
+	}()
+	work()
+	return api.OK, 0
+}
