@@ -3,6 +3,7 @@ package bounded
 
 import (
 	"bounded/api"
+	"bounded/code"
 	"bounded/refusal"
 	"bounded/source"
 )
@@ -13,8 +14,19 @@ func Check(text string) (api.Errno, int) {
 }
 
 // Trace runs a program, step by step (P3).
-func Trace(text string, input []int64, steps int) (api.State, api.Errno, int) {
-	return api.State{}, api.OK, 0
+func Trace(text string, input []int64, steps int) (state api.State, errno api.Errno, line int) {
+	errno, line = outcome(func() {
+		program := source.Read(text)
+		checkSteps(steps)
+		state = code.Of(program).Run(input, steps)
+	})
+	return state, errno, line
+}
+
+func checkSteps(steps int) {
+	if steps < 0 || steps > api.MaxTrace {
+		refusal.Raise(api.ErrSteps, 0)
+	}
 }
 
 // Verify lets a program in, or does not (P4).

@@ -40,14 +40,62 @@ func TestNoCallPanics(t *testing.T) {
 	}
 }
 
+// readers: programs that read and put out, and end in each of the ways.
+var readers = []string{
+	example,
+	"func f\nread r0\nwrite r0\nread r0\nwrite r0\nback",
+	"func f\na:\nread r0\nwrite r0\nstore r1 r0\ninc r1 1\njump a",
+	"func f\nread r0\nwrite r0\ncall f\nback",
+	"func f\na:\nread r0\nwrite r0\njump a",
+	"func f\nread r0\nwrite r0\nstop",
+	"func f\nstop",
+}
+
 func TestTheInputIsNotWrittenInto(t *testing.T) {
 	spare := []int64{1, 2, 3, 4, 5, 6}
 	before := slices.Clone(spare)
-	for _, text := range []string{example, "func f\nread r0\nwrite r0\nread r0\nwrite r0\nback"} {
-		bounded.Trace(text, spare[:3], 100)
+	for _, text := range readers {
+		for _, steps := range []int{0, 1, 2, 3, 100, api.MaxTrace, -1} {
+			bounded.Trace(text, spare[:3], steps)
+		}
 		bounded.Run(text, spare[:3])
 		if !slices.Equal(spare, before) {
 			t.Errorf("the input is %v behind a run of %q, was %v", spare, text, before)
+		}
+	}
+}
+
+// spoil writes over a list, spare room too.
+func spoil(list []int64) {
+	list = list[:cap(list)]
+	for i := range list {
+		list[i] = -99
+	}
+}
+
+func TestWhatComesOutIsNewMemory(t *testing.T) {
+	for _, text := range readers {
+		for _, steps := range []int{2, 3, 10, 100} {
+			input := []int64{1, 2, 3, 4, 5, 6}
+			first, _, _ := bounded.Trace(text, input[:3], steps)
+			second, _, _ := bounded.Trace(text, input[:3], steps)
+			kept := slices.Clone(second.Out)
+			spoil(first.Out)
+			if !slices.Equal(second.Out, kept) {
+				t.Errorf("%q: two answers share memory", text)
+			}
+			if !slices.Equal(input, []int64{1, 2, 3, 4, 5, 6}) {
+				t.Errorf("%q: what was put out shares memory with the input: %v", text, input)
+			}
+			spoil(input)
+			if !slices.Equal(second.Out, kept) {
+				t.Errorf("%q: the input is kept in what was put out", text)
+			}
+			third, _, _ := bounded.Trace(text, []int64{1, 2, 3}, steps)
+			second.Out = kept
+			if !sameState(second, third) {
+				t.Errorf("%q: %+v, and later %+v", text, second, third)
+			}
 		}
 	}
 }
@@ -74,18 +122,27 @@ func TestTheAnswerHangsOnTheArgumentsAlone(t *testing.T) {
 	type answer struct {
 		errno api.Errno
 		line  int
+		state api.State
 	}
-	texts := append(oddTexts(), "func f\na:\na:\nback\nfunc f\nback", "func f\njump a\nfunc g\njump b", "func f\nfunc g\nfunc h")
+	ask := func(text string) (a answer) {
+		a.state, a.errno, a.line = bounded.Trace(text, []int64{3, 1, 4}, 50)
+		if e, l := bounded.Check(text); e != a.errno || l != a.line {
+			t.Errorf("Check(%.80q) = %d, %d, and Trace tells %d, %d", text, e, l, a.errno, a.line)
+		}
+		return a
+	}
+	texts := append(oddTexts(), "func f\na:\na:\nback\nfunc f\nback", "func f\njump a\nfunc g\njump b", "func f\nfunc g\nfunc h", chain(16), chain(17))
+	texts = append(texts, readers...)
 	first := make([]answer, len(texts))
 	for i, text := range texts {
-		first[i].errno, first[i].line = bounded.Check(text)
+		first[i] = ask(text)
 	}
 	var workers sync.WaitGroup
 	for range 4 {
 		workers.Go(func() {
 			for i := len(texts) - 1; i >= 0; i-- {
-				if e, l := bounded.Check(texts[i]); (answer{e, l}) != first[i] {
-					t.Errorf("Check(%.80q) = %d, %d, was %v", texts[i], e, l, first[i])
+				if a := ask(texts[i]); !reflect.DeepEqual(a, first[i]) {
+					t.Errorf("%.80q is answered with %v, was %v", texts[i], a, first[i])
 				}
 			}
 		})

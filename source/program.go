@@ -14,12 +14,12 @@ type Program struct {
 	Places    map[string]int // by a function's name: where in Functions it is
 }
 
-// Function is a function's labels and instructions, in the order of the text.
+// Function is a function's instructions, in the order of the text, and its labels.
 type Function struct {
 	Name   string
 	Line   int
 	Body   []Statement
-	Labels map[string]int // by a label's name: where in Body it is
+	Labels map[string]int // by a label's name: where in Body the instruction is that comes next
 }
 
 // Read reads a text. What is wrong with it is raised as a refusal: each look goes over the whole text ahead of the next one, since an error that is named earlier in the document goes before one on an earlier line.
@@ -80,8 +80,9 @@ func (p *Program) begin(s Statement) {
 func (f *Function) add(s Statement) {
 	if s.Sort == Label {
 		enter(f.Labels, s, len(f.Body))
+	} else {
+		f.Body = append(f.Body, s)
 	}
-	f.Body = append(f.Body, s)
 }
 
 func enter(places map[string]int, s Statement, place int) {
@@ -110,11 +111,20 @@ func demand(places map[string]int, s Statement) {
 	}
 }
 
-// checkEnds: the last thing that a function says must be an instruction that it may end with; a function without one, and a label behind the last one, are found by that too.
 func (p Program) checkEnds() {
 	for _, f := range p.Functions {
-		if len(f.Body) == 0 || !f.Body[len(f.Body)-1].mayEnd() {
+		if !f.ends() {
 			refusal.Raise(api.ErrEnd, f.Line)
 		}
 	}
+}
+
+// ends tells whether nothing goes on behind the function's last instruction, neither from it nor from a label.
+func (f Function) ends() bool {
+	for _, place := range f.Labels {
+		if place == len(f.Body) {
+			return false
+		}
+	}
+	return len(f.Body) > 0 && f.Body[len(f.Body)-1].mayEnd()
 }

@@ -13,14 +13,11 @@ func TestReadKeepsWhatTheTextSays(t *testing.T) {
 			{Name: "f", Line: 1, Labels: map[string]int{"α": 2}, Body: []Statement{
 				{Sort: Instruction, Line: 2, Word: "set", Regs: [3]int{1}, Number: -7},
 				{Sort: Instruction, Line: 3, Word: "call", Name: "g"},
-				{Sort: Label, Line: 4, Name: "α"},
 				{Sort: Instruction, Line: 5, Word: "less", Regs: [3]int{7, 2}, Name: "α"},
 				{Sort: Instruction, Line: 6, Word: "add", Regs: [3]int{3, 4, 5}},
 				{Sort: Instruction, Line: 7, Word: "back"},
 			}},
-			{Name: "g", Line: 9, Labels: map[string]int{"b": 0, "c": 1}, Body: []Statement{
-				{Sort: Label, Line: 10, Name: "b"},
-				{Sort: Label, Line: 11, Name: "c"},
+			{Name: "g", Line: 9, Labels: map[string]int{"b": 0, "c": 0}, Body: []Statement{
 				{Sort: Instruction, Line: 12, Word: "jump", Name: "c"},
 			}},
 		},
