@@ -4,6 +4,7 @@ package bounded
 import (
 	"bounded/api"
 	"bounded/code"
+	"bounded/gate"
 	"bounded/refusal"
 	"bounded/source"
 )
@@ -30,11 +31,21 @@ func checkSteps(steps int) {
 }
 
 // Verify lets a program in, or does not (P4).
-func Verify(text string) (api.Bound, api.Errno, int) { return api.Bound{}, api.OK, 0 }
+func Verify(text string) (bound api.Bound, errno api.Errno, line int) {
+	errno, line = outcome(func() {
+		bound = gate.Bound(code.Of(source.Read(text)))
+	})
+	return bound, errno, line
+}
 
 // Run runs a program that is let in (P5).
-func Run(text string, input []int64) (api.State, api.Errno, int) {
-	return api.State{}, api.OK, 0
+func Run(text string, input []int64) (state api.State, errno api.Errno, line int) {
+	errno, line = outcome(func() {
+		program := code.Of(source.Read(text))
+		bound := gate.Bound(program)
+		state = program.Run(input, bound.Steps)
+	})
+	return state, errno, line
 }
 
 // outcome does the work and tells the refusal that ended it, if one did. Any other panic is a mistake of the program's own, which must not pass for an answer: it is told on.

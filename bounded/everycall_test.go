@@ -73,12 +73,30 @@ func spoil(list []int64) {
 	}
 }
 
+// runner is a call that runs a program with an input.
+type runner func(text string, input []int64) api.State
+
+// runners: Trace with several numbers of steps, and Run.
+func runners() []runner {
+	all := []runner{func(text string, input []int64) api.State {
+		state, _, _ := bounded.Run(text, input)
+		return state
+	}}
+	for _, steps := range []int{2, 3, 10, 100} {
+		all = append(all, func(text string, input []int64) api.State {
+			state, _, _ := bounded.Trace(text, input, steps)
+			return state
+		})
+	}
+	return all
+}
+
 func TestWhatComesOutIsNewMemory(t *testing.T) {
 	for _, text := range readers {
-		for _, steps := range []int{2, 3, 10, 100} {
+		for _, run := range runners() {
 			input := []int64{1, 2, 3, 4, 5, 6}
-			first, _, _ := bounded.Trace(text, input[:3], steps)
-			second, _, _ := bounded.Trace(text, input[:3], steps)
+			first := run(text, input[:3])
+			second := run(text, input[:3])
 			kept := slices.Clone(second.Out)
 			spoil(first.Out)
 			if !slices.Equal(second.Out, kept) {
@@ -91,7 +109,7 @@ func TestWhatComesOutIsNewMemory(t *testing.T) {
 			if !slices.Equal(second.Out, kept) {
 				t.Errorf("%q: the input is kept in what was put out", text)
 			}
-			third, _, _ := bounded.Trace(text, []int64{1, 2, 3}, steps)
+			third := run(text, []int64{1, 2, 3})
 			second.Out = kept
 			if !sameState(second, third) {
 				t.Errorf("%q: %+v, and later %+v", text, second, third)
@@ -123,8 +141,13 @@ func TestTheAnswerHangsOnTheArgumentsAlone(t *testing.T) {
 		errno api.Errno
 		line  int
 		state api.State
+		let   api.Errno
+		bound api.Bound
+		end   api.State
 	}
 	ask := func(text string) (a answer) {
+		a.bound, a.let, _ = bounded.Verify(text)
+		a.end, _, _ = bounded.Run(text, []int64{3, 1, 4})
 		a.state, a.errno, a.line = bounded.Trace(text, []int64{3, 1, 4}, 50)
 		if e, l := bounded.Check(text); e != a.errno || l != a.line {
 			t.Errorf("Check(%.80q) = %d, %d, and Trace tells %d, %d", text, e, l, a.errno, a.line)

@@ -13,3 +13,8 @@ type Refusal struct {
 func Raise(errno api.Errno, line int) {
 	panic(Refusal{errno, line})
 }
+
+// Reject ends the call since the program is not let in.
+func Reject() {
+	Raise(api.ErrRejected, 0)
+}
