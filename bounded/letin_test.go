@@ -62,6 +62,11 @@ func FuzzVerify(f *testing.F) {
 		if e == api.OK && withoutReading(text) {
 			known(t, text)
 		}
+		if e == api.OK {
+			if _, counts := weigh(text); counts {
+				counted(t, text, nil)
+			}
+		}
 		switch {
 		case errno == api.OK && e == api.OK && line == 0:
 			keeps(t, text, bound, [][]int64{nil, {first, second}})

@@ -28,7 +28,7 @@ func inputs() [][]int64 {
 	return all
 }
 
-// keeps holds a bound against runs: P4, and P5 and P7 of Run.
+// keeps holds a bound against runs: P4, P5 and P7.
 func keeps(t *testing.T, text string, bound api.Bound, inputs [][]int64) {
 	t.Helper()
 	if bound.Steps < 1 || bound.Steps > api.MaxSteps || bound.Frames < 1 || bound.Frames > api.MaxFrames {
@@ -44,6 +44,20 @@ func keeps(t *testing.T, text string, bound api.Bound, inputs [][]int64) {
 		if errno != api.OK || line != 0 || !sameState(state, end) {
 			t.Errorf("P5, P7: Run(%q, %v) = %+v, %d, %d, want %+v", text, input, state, errno, line, end)
 		}
+		sameEnd(t, text, input, state, bound)
+	}
+}
+
+// sameEnd: Trace tells Run's end with as many steps as it has, and with as many as the bound; and one step sooner it tells none.
+func sameEnd(t *testing.T, text string, input []int64, state api.State, bound api.Bound) {
+	t.Helper()
+	for _, steps := range []int{state.Steps, bound.Steps} {
+		if end := traced(t, text, input, steps); !sameState(end, state) {
+			t.Errorf("P7: Trace(%q, %v, %d) = %+v, but Run's end is %+v", text, input, steps, end, state)
+		}
+	}
+	if sooner := traced(t, text, input, state.Steps-1); sooner.End != api.Running {
+		t.Errorf("P7: Trace(%q, %v, %d) = %+v, but Run's end is %+v", text, input, state.Steps-1, sooner, state)
 	}
 }
 
@@ -113,6 +127,27 @@ func TestRunTellsTheWholeState(t *testing.T) {
 	state, _, _ = bounded.Run(lines("func f / call g / back / func g / stop"), nil)
 	if !sameState(state, api.State{Steps: 2, Frames: 2, Peak: 2, End: api.Stopped}) {
 		t.Errorf("stopped in a called function: %+v", state)
+	}
+}
+
+// TestRunAndTraceTellTheSameEnd: P7, where the end hangs on the input.
+func TestRunAndTraceTellTheSameEnd(t *testing.T) {
+	text := lines("func f / read r0 / less r0 r1 a / same r0 r1 b / back / a: / stop / b: / call g / back / func g / read r2 / write r2 / less r1 r2 c / back / c: / stop")
+	for _, c := range []struct {
+		input []int64
+		want  api.State
+	}{
+		{[]int64{-1}, api.State{Steps: 3, Regs: [8]int64{-1}, Frames: 1, Peak: 1, End: api.Stopped}},
+		{[]int64{1}, api.State{Steps: 4, Regs: [8]int64{1}, Peak: 1, End: api.Returned}},
+		{nil, api.State{Steps: 9, Out: []int64{0}, Peak: 2, End: api.Returned}},
+		{[]int64{0, 5}, api.State{Steps: 8, Regs: [8]int64{2: 5}, Out: []int64{5}, Frames: 2, Peak: 2, End: api.Stopped}},
+	} {
+		bound := letIn(t, text, c.input)
+		traces(t, text, c.input, bound.Steps, c.want)
+		traces(t, text, c.input, api.MaxTrace, c.want)
+		if state, errno, line := bounded.Run(text, c.input); errno != api.OK || line != 0 || !sameState(state, c.want) {
+			t.Errorf("P7: Run(%v) = %+v, %d, %d, want %+v", c.input, state, errno, line, c.want)
+		}
 	}
 }
 

@@ -9,7 +9,7 @@ import (
 	"bounded/refusal"
 )
 
-// More than this is not looked at, though it might show that the program ends.
+// More than this is not looked at, though it might show that the program ends. No counted program comes near: it has never more than one way on, so that one place waits, and there are as many looks as steps.
 const (
 	maxLooks   = 5 * api.MaxSteps
 	maxWaiting = 1000
